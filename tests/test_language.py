@@ -1,0 +1,151 @@
+"""The rules of the language that can be read off the files, and the places of the interface."""
+
+import ast
+import inspect
+import pathlib
+import re
+import unittest
+
+from statestay import errors, shapes, templates
+
+PACKAGE = pathlib.Path(shapes.__file__).parent
+BARRED = ["type", "typing", "typing_extensions", "enum", "Enum", "IntEnum", "StrEnum", "Flag", "IntFlag", "Generic",
+          "Protocol", "ABC", "ABCMeta", "namedtuple", "NamedTuple", "TypedDict", "TYPE_CHECKING", "abstractmethod"]
+BUILTINS = {
+    "len", "range", "enumerate", "zip", "min", "max", "sum", "abs", "sorted", "reversed", "int", "str", "bool", "list",
+    "tuple", "dict", "set", "isinstance", "ord", "repr", "any", "all", "divmod", "iter", "next", "property", "super",
+    "Exception", "ValueError", "TypeError", "KeyError", "IndexError", "LookupError", "NotImplemented",
+}
+PYTHONS = set(dir(__builtins__)) if not isinstance(__builtins__, dict) else set(__builtins__)
+NOT_ALLOWED = (ast.Global, ast.AsyncFunctionDef, ast.AsyncFor, ast.AsyncWith, ast.Await, ast.Div)
+INTERFACE = {
+    shapes: {"Shape": ["__init__", "__eq__", "outer", "inner", "fields", "parent"], "check": [], "rows_in": [],
+             "count_data": [], "all_data": []},
+    templates: {"Template": ["__init__", "__eq__", "spread", "paths", "parts", "kinds", "item_at", "rows_around",
+                             "with_item"]},
+}
+
+
+def files():
+    return sorted(path for path in PACKAGE.iterdir() if path.name != "__pycache__")
+
+
+def trees():
+    return [(path, ast.parse(path.read_text(encoding="utf-8"))) for path in files()]
+
+
+def nodes(*kinds):
+    """Each node of these kinds, with the name of its file and its line."""
+    for path, tree in trees():
+        for node in ast.walk(tree):
+            if isinstance(node, kinds):
+                yield f"{path.name}:{getattr(node, 'lineno', 0)}", node
+
+
+class Files(unittest.TestCase):
+    def test_names(self):
+        self.assertLessEqual(len(files()), 100)
+        for path in files():
+            self.assertRegex(path.name, r"\A(__init__|__main__|[a-z][a-z0-9_]*)\.py\Z")
+            self.assertNotIn(path.stem, PYTHONS | set(BARRED) | {"test", "tests", "testing", "site", "conftest"})
+            self.assertFalse(path.stem.startswith(("law_", "test_")))
+
+    def test_characters_and_sizes(self):
+        for path in files():
+            text = path.read_text(encoding="utf-8")
+            self.assertRegex(text, r"\A[ -~\n]*\Z", path.name)
+            lines = text.split("\n")
+            self.assertLessEqual(len(lines), 399, path.name)
+            self.assertLessEqual(max(map(len, lines)), 120, path.name)
+
+    def test_barred_words(self):
+        for path in files():
+            text = path.read_text(encoding="utf-8")
+            for word in BARRED:
+                self.assertIsNone(re.search(rf"\b{word}\b", text), f"{word} in {path.name}")
+            for word in ("dataclass", "overload", "contextmanager"):
+                self.assertNotIn(word, text)
+
+    def test_module_level(self):
+        for path, tree in trees():
+            allowed = (ast.ImportFrom, ast.FunctionDef, ast.ClassDef, ast.Assign)
+            self.assertIsNotNone(ast.get_docstring(tree), path.name)
+            for node in tree.body[1:]:
+                self.assertIsInstance(node, allowed, path.name)
+                if isinstance(node, ast.Assign):
+                    ast.literal_eval(node.value)
+
+    def test_imports(self):
+        defined = {path.stem: {node.name for node in tree.body if isinstance(node, (ast.FunctionDef, ast.ClassDef))}
+                   for path, tree in trees()}
+        self.assertEqual([where for where, node in nodes(ast.Import)], [])
+        for where, node in nodes(ast.ImportFrom):
+            package, name = node.module.split(".")
+            self.assertEqual((package, node.level), ("statestay", 0), where)
+            for alias in node.names:
+                self.assertIn(alias.name, defined[name], where)
+                self.assertIsNone(alias.asname, where)
+
+
+class Code(unittest.TestCase):
+    def test_functions(self):
+        for where, node in nodes(ast.FunctionDef):
+            self.assertLessEqual(node.end_lineno - node.lineno + 1, 40, where)
+            self.assertIsNotNone(ast.get_docstring(node), where)
+            self.assertEqual(node.args.posonlyargs, [], where)
+            self.assertNotIn(node.name, PYTHONS, where)
+
+    def test_names(self):
+        for where, node in nodes(ast.Name, ast.arg, ast.Attribute):
+            name = getattr(node, "id", None) or getattr(node, "arg", None) or getattr(node, "attr", None)
+            if not (isinstance(node, ast.Attribute) and name == "__init__"):
+                self.assertFalse(name.startswith("_"), where)
+            if isinstance(node, ast.arg) or isinstance(node, ast.Name) and isinstance(node.ctx, ast.Store):
+                self.assertNotIn(name, PYTHONS, where)
+            if isinstance(node, ast.Name) and name in PYTHONS:
+                self.assertIn(name, BUILTINS, where)
+
+    def test_what_is_not_allowed(self):
+        self.assertEqual([where for where, node in nodes(*NOT_ALLOWED)], [])
+        # Where a class has __eq__, any, all and the like take a list.
+        self.assertEqual([where for where, node in nodes(ast.GeneratorExp)], [])
+        for where, node in nodes(ast.Constant):
+            self.assertNotIsInstance(node.value, (float, complex, bytes), where)
+            self.assertFalse(isinstance(node.value, str) and "%" in node.value, where)
+
+    def test_is(self):
+        for where, node in nodes(ast.Compare):
+            for sign, right in zip(node.ops, node.comparators):
+                if isinstance(sign, (ast.Is, ast.IsNot)):
+                    self.assertTrue(isinstance(right, ast.Constant) and right.value in (None, True, False), where)
+
+    def test_no_name_is_a_method_and_an_attribute(self):
+        methods = {node.name for where, one in nodes(ast.ClassDef) for node in one.body
+                   if isinstance(node, ast.FunctionDef)}
+        stored = {node.attr for where, node in nodes(ast.Attribute) if isinstance(node.ctx, ast.Store)}
+        self.assertEqual(methods & stored, set())
+
+
+class Interface(unittest.TestCase):
+    def test_where_each_name_is_defined(self):
+        for module, names in INTERFACE.items():
+            for name, methods in names.items():
+                self.assertEqual(getattr(module, name).__module__, module.__name__)
+                for method in methods:
+                    self.assertIn(method, vars(getattr(module, name)))
+
+    def test_arguments(self):
+        for call, arguments in (
+            (shapes.Shape, "(flags, lists)"), (shapes.check, "(shape, data)"), (shapes.rows_in, "(data)"),
+            (shapes.count_data, "(shape, most, *, ids=2)"), (shapes.all_data, "(shape, most, *, ids=2)"),
+            (templates.Template, "(shape, items, *, pieces=None)"), (shapes.Shape.inner, "(self, name)"),
+            (shapes.Shape.fields, "(self, name)"), (shapes.Shape.parent, "(self, name)"),
+            (shapes.Shape.outer, "(self)"), (templates.Template.item_at, "(self, path)"),
+            (templates.Template.rows_around, "(self, path)"), (templates.Template.with_item, "(self, path, item)"),
+            (errors.InvalidTemplate, "(part, path)"), (errors.NoList, "(name)"), (errors.LimitExceeded, "(limit)"),
+        ):
+            self.assertEqual(str(inspect.signature(call)), arguments)
+
+
+if __name__ == "__main__":
+    unittest.main()
