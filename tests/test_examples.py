@@ -2,6 +2,9 @@
 
 import unittest
 
+from statestay.drawing import Node, draw
+from statestay.matching import Rule, faults, match
+from statestay.screens import Screen
 from statestay.shapes import Shape, all_data, check, count_data
 from statestay.templates import Template
 from helpers import outcome
@@ -52,6 +55,54 @@ class Examples(unittest.TestCase):
         shape = Shape([], {"todo": {"fields": {}, "inner": {}}})
         told = outcome(Template, shape, [("for", "todo", [("part", "row", ("up", ("id",)), [])])])
         self.assertEqual(told, ("InvalidTemplate", 'key', (0, 0, 0)))
+
+    def test_draw(self):
+        shape = Shape(["on"], {"todo": {"fields": {}, "inner": {}}})
+        first = [("part", "note", None, [])]
+        items = [("if", ("flag", "on"), first, []), ("for", "todo", [("part", "row", ("id",), [])])]
+        rows = [{"id": 5, "fields": {}, "lists": {}}, {"id": 3, "fields": {}, "lists": {}}]
+        nodes = draw(Template(shape, items), {"flags": {"on": True}, "lists": {"todo": rows}})
+        self.assertEqual(
+            [[nodes[0].kind, nodes[0].key, nodes[0].owner], [nodes[2].kind, nodes[2].key, nodes[2].owner]],
+            [['note', None, ((0, 0, 0), ())], ['row', ('id', 3), ((1, 0, 0), (3,))]])
+        self.assertEqual([(node.kind, node.key, node.owner, node.below()) for node in nodes], [
+            ("note", None, ((0, 0, 0), ()), []), ("row", ("id", 5), ((1, 0, 0), (5,)), []),
+            ("row", ("id", 3), ((1, 0, 0), (3,)), [])])
+
+    def test_slots(self):
+        nodes = [Node("a", ("id", 1), ((0,), ())), Node("b", None, ((1,), ())), Node("a", ("id", 1), ((2,), ()))]
+        self.assertEqual([Rule()(nodes), Rule(Rule.PLAIN)(nodes)], [
+            [('a', ('id', 1), 0), ('b', None, 1), ('a', ('id', 1), 1)],
+            [('a', ('id', 1), 0), ('b', None, 0), ('a', ('id', 1), 1)]])
+
+    def test_match_and_faults(self):
+        old = [Node("row", None, ((0, 0, 0), (5,))), Node("row", None, ((0, 0, 0), (3,)))]
+        new = [Node("row", None, ((0, 0, 0), (3,)))]
+        self.assertEqual([match(Rule(), old, new), faults(Rule(), old, new)], [
+            [(((0, 0, 0), (5,)), ((0, 0, 0), (3,)))],
+            [('lost', ((0, 0, 0), (3,))), ('mixed', ((0, 0, 0), (5,)), ((0, 0, 0), (3,)))]])
+
+    def test_faults_of_two_drawings(self):
+        shape = Shape(["on"], {"todo": {"fields": {}, "inner": {}}})
+        items = [("if", ("flag", "on"), [("part", "note", None, [])], []),
+                 ("for", "todo", [("part", "row", None, [])])]
+        template = Template(shape, items)
+        old, new = [draw(template, {"flags": {"on": False}, "lists": {"todo": [
+            {"id": number, "fields": {}, "lists": {}} for number in several]}}) for several in ((5, 3), (3,))]
+        self.assertEqual(faults(Rule("all"), old, new), [
+            ("lost", ((1, 0, 0), (3,))), ("mixed", ((1, 0, 0), (5,)), ((1, 0, 0), (3,)))])
+
+    def test_screen(self):
+        shape = Shape([], {"todo": {"fields": {}, "inner": {}}})
+        one = {"id": 5, "fields": {}, "lists": {}}
+        two = {"id": 3, "fields": {}, "lists": {}}
+        template = Template(shape, [("for", "todo", [("part", "row", None, [])])])
+        screen = Screen(template, Rule(), {"flags": {}, "lists": {"todo": [one, two]}})
+        screen[((0, 0, 0), (5,))] = "milk"
+        screen.put_focus(((0, 0, 0), (3,)))
+        screen.show({"flags": {}, "lists": {"todo": [two]}})
+        self.assertEqual([screen.states(), screen.focus, screen.lost(), screen.mixed()], [
+            {((0, 0, 0), (3,)): 'milk'}, None, [((0, 0, 0), (3,))], [(((0, 0, 0), (5,)), ((0, 0, 0), (3,)))]])
 
 
 if __name__ == "__main__":
