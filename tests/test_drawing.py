@@ -259,7 +259,7 @@ class ManyTemplates(unittest.TestCase):
     def test_against_another_way(self):
         dice = random.Random(21)
         forms = set()
-        for turn in range(1500):
+        for turn in range(1000):
             spec = chance.specs()[turn % 3]
             items = chance.items(dice, spec)
             template = Template(Shape(*spec), items)

@@ -14,8 +14,10 @@ BARRED = ["type", "typing", "typing_extensions", "enum", "Enum", "IntEnum", "Str
 BUILTINS = {
     "len", "range", "enumerate", "zip", "min", "max", "sum", "abs", "sorted", "reversed", "int", "str", "bool", "list",
     "tuple", "dict", "set", "isinstance", "ord", "repr", "any", "all", "divmod", "iter", "next", "property", "super",
-    "Exception", "ValueError", "TypeError", "KeyError", "IndexError", "LookupError", "NotImplemented",
+    "staticmethod", "classmethod", "Exception", "ValueError", "TypeError", "KeyError", "IndexError", "LookupError",
+    "ZeroDivisionError", "ArithmeticError", "OverflowError", "RuntimeError", "NotImplementedError", "NotImplemented",
 }
+GATHERING = ("sum", "min", "max", "sorted", "any", "all")
 PYTHONS = set(dir(__builtins__)) if not isinstance(__builtins__, dict) else set(__builtins__)
 NOT_ALLOWED = (ast.Global, ast.AsyncFunctionDef, ast.AsyncFor, ast.AsyncWith, ast.Await, ast.Div)
 INTERFACE = {
@@ -73,17 +75,19 @@ class Files(unittest.TestCase):
     def test_module_level(self):
         for path, tree in trees():
             allowed = (ast.ImportFrom, ast.FunctionDef, ast.ClassDef, ast.Assign)
-            self.assertIsNotNone(ast.get_docstring(tree), path.name)
-            for node in tree.body[1:]:
+            for node in tree.body[ast.get_docstring(tree) is not None:]:
                 self.assertIsInstance(node, allowed, path.name)
                 if isinstance(node, ast.Assign):
-                    ast.literal_eval(node.value)
+                    self.assertEqual([len(node.targets), type(node.targets[0])], [1, ast.Name], path.name)
 
     def test_imports(self):
-        defined = {path.stem: {node.name for node in tree.body if isinstance(node, (ast.FunctionDef, ast.ClassDef))}
+        defined = {path.stem: {getattr(node, "name", None) or node.targets[0].id for node in tree.body
+                               if isinstance(node, (ast.FunctionDef, ast.ClassDef, ast.Assign))}
                    for path, tree in trees()}
         self.assertEqual([where for where, node in nodes(ast.Import)], [])
         for where, node in nodes(ast.ImportFrom):
+            if node.module == "__future__":
+                continue
             package, name = node.module.split(".")
             self.assertEqual((package, node.level), ("statestay", 0), where)
             for alias in node.names:
@@ -110,10 +114,8 @@ class Code(unittest.TestCase):
 
     def test_what_is_not_allowed(self):
         self.assertEqual([where for where, node in nodes(*NOT_ALLOWED)], [])
-        # Where a class has __eq__, any, all and the like take a list.
-        self.assertEqual([where for where, node in nodes(ast.GeneratorExp)], [])
         for where, node in nodes(ast.Constant):
-            self.assertNotIsInstance(node.value, (float, complex, bytes), where)
+            self.assertNotIsInstance(node.value, (float, complex), where)
             self.assertFalse(isinstance(node.value, str) and "%" in node.value, where)
 
     def test_is(self):
@@ -128,9 +130,10 @@ class Code(unittest.TestCase):
         generators = {node.name for node in made
                       if any(isinstance(one, (ast.Yield, ast.YieldFrom)) for one in ast.walk(node))}
         self.assertEqual(sorted(generators), sorted(name for name in names if name in generators))
-        # Where a class has an operator, these take a list.
+        # Where a class has __eq__ or an operator, these take a list.
         for where, node in nodes(ast.Call):
-            if isinstance(node.func, ast.Name) and node.func.id in ("sum", "min", "max", "sorted", "any", "all"):
+            if isinstance(node.func, ast.Name) and node.func.id in GATHERING:
+                self.assertEqual([one for one in node.args if isinstance(one, ast.GeneratorExp)], [], where)
                 for given in [one for one in node.args if isinstance(one, ast.Call)]:
                     name = getattr(given.func, "id", None) or getattr(given.func, "attr", None)
                     self.assertNotIn(name, generators, where)

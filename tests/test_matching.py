@@ -310,7 +310,7 @@ class Drawings(Against):
     def test_data_that_are_changed(self):
         dice = random.Random(27)
         seen = set()
-        for turn in range(500):
+        for turn in range(360):
             spec = chance.specs()[turn % 3]
             template = Template(Shape(*spec), chance.items(dice, spec))
             first = chance.data(dice, spec)

@@ -43,9 +43,8 @@ class Attributes(unittest.TestCase):
         self.assertEqual(exactly([node.kind, node.key, node.owner]), exactly([None, None, ((0,), ())]))
 
     def test_by_keywords(self):
-        below = leaf(2)
-        node = Node(kind="a", key=("id", 1), owner=owner(1), nodes=[below])
-        self.assertEqual((node.kind, node.key, node.owner, node.below()), ("a", ("id", 1), owner(1), [below]))
+        node = Node(kind="a", key=("id", 1), owner=owner(1), nodes=[leaf(2)])
+        self.assertEqual((node.kind, node.key, node.owner, numbers(node.below())), ("a", ("id", 1), owner(1), [2]))
 
 
 class Below(unittest.TestCase):
@@ -127,7 +126,7 @@ class Walk(unittest.TestCase):
 
     def test_twice(self):
         node = three_levels(list)
-        self.assertEqual(list(node.walk()), list(node.walk()))
+        self.assertEqual(numbers(node.walk()), numbers(node.walk()))
 
     def test_trees_that_dice_choose(self):
         dice = random.Random(5)

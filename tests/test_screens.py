@@ -311,6 +311,22 @@ class Undo(unittest.TestCase):
             self.assertEqual(exactly(told(screen)), before)
         self.assertEqual(outcome(screen.undo), ("NothingToUndo",))
 
+    def test_very_many(self):
+        screen = new_screen()
+        screen.put_focus(END)
+        for at in range(300):
+            screen[END] = str(at)
+            screen.show(data(at % 7, 9))
+        screen.play([data(at % 5) for at in range(100)])
+        for at in range(99):
+            screen.undo()
+        screen.undo()
+        for at in range(299, -1, -1):
+            screen.undo()
+            self.assertEqual((screen[END], screen.focus), (str(at), END))
+            self.assertEqual(screen.data, data((at - 1) % 7, 9) if at else data())
+        self.assertEqual(outcome(screen.undo), ("NothingToUndo",))
+
     def test_a_show_after_an_undo(self):
         screen = new_screen(5, 3)
         screen.show(data(3))
