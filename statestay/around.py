@@ -20,6 +20,17 @@ def value_of(key, around):
     return ("word", key[1])
 
 
+def has_value(key, around, value):
+    """Whether a key has this value; it is looked at only as far as it can tell."""
+    if key is None or value is None:
+        return key is None and value is None
+    if key[0] == "up":
+        return has_value(key[1], around[:-1], value)
+    if key[0] == "both":
+        return value[0] == "both" and has_value(key[1], around, value[1]) and has_value(key[2], around, value[2])
+    return value_of(key, around) == value
+
+
 def holds(test, around):
     """Whether a test holds."""
     if test[0] == "flag":

@@ -4,9 +4,12 @@ import unittest
 
 from statestay.drawing import Node, draw
 from statestay.matching import Rule, faults, match
+from statestay.moves import done, least_moves, shifts
+from statestay.right import is_right
 from statestay.screens import Screen
 from statestay.shapes import Shape, all_data, check, count_data
 from statestay.templates import Template
+from statestay.verdicts import losing, places, verdicts
 from helpers import outcome
 
 
@@ -103,6 +106,34 @@ class Examples(unittest.TestCase):
         screen.show({"flags": {}, "lists": {"todo": [two]}})
         self.assertEqual([screen.states(), screen.focus, screen.lost(), screen.mixed()], [
             {((0, 0, 0), (3,)): 'milk'}, None, [((0, 0, 0), (3,))], [(((0, 0, 0), (5,)), ((0, 0, 0), (3,)))]])
+
+    def test_shifts(self):
+        several = [("remove", 0), ("move", 2, 0), ("insert", 2, "e")]
+        self.assertEqual([done(["a", "b", "c", "d"], several), least_moves(["a", "b", "c", "d"], ["d", "b", "e", "c"])],
+                         [['d', 'b', 'e', 'c'], 1])
+        found = shifts(["a", "b", "c", "d"], ["d", "b", "e", "c"])
+        self.assertEqual(sorted([shift[0] for shift in found]), ["insert", "move", "remove"])
+        self.assertEqual(done(["a", "b", "c", "d"], found), ["d", "b", "e", "c"])
+
+    def rows_and_an_end(self):
+        shape = Shape(["on"], {"todo": {"fields": {}, "inner": {}}})
+        items = [("for", "todo", [("part", "row", None, [])]), ("part", "end", None, [])]
+        return Template(shape, items)
+
+    def test_is_right(self):
+        template = self.rows_and_an_end()
+        keyed = template.with_item((0, 0, 0), ("part", "row", ("id",), []))
+        self.assertEqual([is_right(keyed, Rule("plain")), is_right(keyed, Rule("all")) is None,
+                          is_right(template, Rule("plain")) is None], [None, False, False])
+
+    def test_verdicts(self):
+        template = self.rows_and_an_end()
+        told = verdicts(template, Rule())
+        self.assertEqual([told[(0, 0, 0)], told[(1,)], places(template, Rule(), (1,), 3)],
+                         [(True, [(0, 0, 0)]), (True, []), [0, 1, 2, 3]])
+
+    def test_no_part(self):
+        self.assertEqual(outcome(losing, self.rows_and_an_end(), Rule(), (0,)), ("NoItem", (0,)))
 
 
 if __name__ == "__main__":

@@ -6,7 +6,7 @@ import pathlib
 import re
 import unittest
 
-from statestay import drawing, errors, matching, screens, shapes, templates
+from statestay import drawing, errors, matching, moves, right, screens, shapes, templates, verdicts
 
 PACKAGE = pathlib.Path(shapes.__file__).parent
 BARRED = ["type", "typing", "typing_extensions", "enum", "Enum", "IntEnum", "StrEnum", "Flag", "IntFlag", "Generic",
@@ -29,6 +29,9 @@ INTERFACE = {
     matching: {"Rule": ["__init__", "__call__", "__eq__", "ALL", "PLAIN"], "addresses": [], "match": [], "faults": []},
     screens: {"Screen": ["__init__", "__getitem__", "__setitem__", "__contains__", "__len__", "data", "focus", "show",
                          "put_focus", "owners", "states", "lost", "mixed", "undo", "trial", "play"]},
+    moves: {"done": [], "shifts": [], "least_moves": [], "moves": [], "cost": []},
+    right: {"is_right": []},
+    verdicts: {"verdicts": [], "losing": [], "mixing": [], "places": [], "data_at": []},
 }
 
 
@@ -183,6 +186,11 @@ class Interface(unittest.TestCase):
             (screens.Screen.owners, "(self)"), (screens.Screen.states, "(self)"), (screens.Screen.lost, "(self)"),
             (screens.Screen.mixed, "(self)"), (screens.Screen.undo, "(self)"), (screens.Screen.trial, "(self, data)"),
             (screens.Screen.play, "(self, several)"),
+            (moves.done, "(labels, several)"), (moves.shifts, "(old, new)"), (moves.least_moves, "(old, new)"),
+            (moves.moves, "(rule, old, new)"), (moves.cost, "(rule, old, new)"), (right.is_right, "(template, rule)"),
+            (verdicts.verdicts, "(template, rule)"), (verdicts.losing, "(template, rule, path)"),
+            (verdicts.mixing, "(template, rule, path, other)"), (verdicts.places, "(template, rule, path, most)"),
+            (verdicts.data_at, "(template, rule, path, index)"),
             (errors.InvalidTemplate, "(part, path)"), (errors.NoList, "(name)"), (errors.LimitExceeded, "(limit)"),
         ):
             self.assertEqual(str(inspect.signature(call)), arguments)
