@@ -3,7 +3,7 @@
 from statestay.copies import fresh
 from statestay.errors import NoItem
 from statestay.templatechecks import check_written, placed
-from statestay.trees import replaced, spread_out
+from statestay.trees import spliced, spread_out
 
 
 class Template:
@@ -49,7 +49,7 @@ class Template:
     def with_item(self, path, item):
         """A new template with this item in the place of the one at the path."""
         self.need_item(path)
-        return Template(self.shape, replaced(self.tree, path, item))
+        return Template(self.shape, spliced(self.tree, path, 1, [item]))
 
     def need_item(self, path):
         """Raise NoItem if there is no item at the path."""

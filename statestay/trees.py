@@ -41,11 +41,11 @@ def spread_out(items, pieces, filling):
     return whole
 
 
-def replaced(items, path, item):
-    """The items with this item in the place of the one at the path."""
+def spliced(items, path, many, others):
+    """The items with so many left out from the path on, and others in their place."""
     index = path[0]
     if len(path) == 1:
-        return items[:index] + [item] + items[index + 1:]
+        return items[:index] + others + items[index + many:]
     several = lists_of(items[index])
-    several[path[1]] = replaced(several[path[1]], path[2:], item)
+    several[path[1]] = spliced(several[path[1]], path[2:], many, others)
     return items[:index] + [with_lists(items[index], several)] + items[index + 1:]

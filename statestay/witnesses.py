@@ -25,7 +25,8 @@ def data_for(study, case, ids, indexes):
 def filled_lists(shape, names, around, world, chosen, deep=0):
     """The lists of the data, or of the row around that is so deep, with the rows that are chosen."""
     lists = {}
-    for name in shape.inner(names[deep - 1]) if deep > 0 else shape.outer():
+    held = shape.inner(names[deep - 1]) if deep > 0 else shape.outer()
+    for name in held:
         rows = [whole_row(shape, name, at, number, body) for at, (number, body) in enumerate(chosen.get(name, []))]
         if name in names:
             inside = filled_lists(shape, names, around, world, chosen, deep + 1)

@@ -1,14 +1,20 @@
-"""The examples of the document, as they stand there."""
+"""The examples of the document, as they stand there, and those of README.md."""
 
+import pathlib
+import re
 import unittest
 
+from statestay.changes import SORTS, apply, is_right_for
+from statestay.desk import Desk
 from statestay.drawing import Node, draw
 from statestay.matching import Rule, faults, match
 from statestay.moves import done, least_moves, shifts
+from statestay.repairs import candidates, full_key, repairs
 from statestay.right import is_right
 from statestay.screens import Screen
 from statestay.shapes import Shape, all_data, check, count_data
 from statestay.templates import Template
+from statestay.texts import read_data, read_shape, read_template, write_data, write_shape, write_template
 from statestay.verdicts import losing, places, verdicts
 from helpers import outcome
 
@@ -134,6 +140,82 @@ class Examples(unittest.TestCase):
 
     def test_no_part(self):
         self.assertEqual(outcome(losing, self.rows_and_an_end(), Rule(), (0,)), ("NoItem", (0,)))
+
+    def test_the_worked_example_of_verdicts(self):
+        shape = Shape([], {"things": {"fields": {}, "inner": {}}})
+        template = Template(shape, [("for", "things", [("part", "row", None, [])]), ("part", "end", None, [])])
+        for rule in (Rule("all"), Rule("plain")):
+            self.assertEqual(verdicts(template, rule), {(0, 0, 0): (True, [(0, 0, 0)]), (1,): (True, [])})
+            for path in ((0, 0, 0), (1,)):
+                self.assertEqual(places(template, rule, path, 100), list(range(101)))
+        keyed = template.with_item((0, 0, 0), ("part", "row", ("id",), []))
+        self.assertIsNone(is_right(keyed, Rule("plain")))
+        self.assertEqual(verdicts(keyed, Rule("all")), {(0, 0, 0): (False, []), (1,): (True, [])})
+
+    def test_sorts(self):
+        self.assertEqual(SORTS, ("append", "cut", "insert", "remove", "move", "field", "flag"))
+
+    def test_apply(self):
+        shape = Shape(["on"], {"todo": {"fields": {}, "inner": {}}})
+        rows = [{"id": number, "fields": {}, "lists": {}} for number in (5, 3, 8)]
+        data = {"flags": {"on": True}, "lists": {"todo": rows}}
+        after = apply(shape, data, ("move", ("todo",), 0, 2))
+        self.assertEqual([after["lists"]["todo"][at]["id"] for at in range(3)], [3, 8, 5])
+        told = outcome(apply, shape, {"flags": {"on": True}, "lists": {"todo": []}}, ("remove", ("todo",), 0))
+        self.assertEqual(told, ("InvalidDeed", 'index'))
+
+    def test_is_right_for(self):
+        template = self.rows_and_an_end()
+        self.assertEqual([is_right_for(template, Rule(), ["append"], 2) is None,
+                          is_right_for(template, Rule(), ["flag", "field"], 2) is None], [False, True])
+
+    def test_keys_and_candidates(self):
+        template = self.rows_and_an_end()
+        self.assertEqual([full_key(template, (0, 0, 0)), candidates(template)],
+                         [('both', ('word', 'a'), ('id',)), [('key', (0, 0, 0)), ('key', (1,)), ('wrap', (0,))]])
+
+    def test_repairs(self):
+        self.assertEqual(repairs(self.rows_and_an_end(), Rule()),
+                         [(('key', (0, 0, 0)), ('key', (1,))), (('key', (0, 0, 0)), ('wrap', (0,)))])
+
+    def test_texts(self):
+        shape = Shape(["on"], {"todo": {"fields": {}, "inner": {}}})
+        items = [("if", ("not", ("flag", "on")), [("part", "note", None, [])], []),
+                 ("for", "todo", [("part", "row", ("id",), [])])]
+        text = 'if not flag on\n  part note none\nelse\nfor todo\n  part row id\n'
+        self.assertEqual(write_template(Template(shape, items)), text)
+        self.assertTrue(read_template(shape, text) == Template(shape, items))
+        self.assertEqual(outcome(read_template, shape, "for todo\n  part row both id\n"), ("InvalidText", 2))
+        step = {"fields": {}, "inner": {}}
+        shape = Shape(["on"], {"todo": {"fields": {"mark": ("old", "new")}, "inner": {"step": step}}})
+        row = {"id": 7, "fields": {"mark": "new"}, "lists": {"step": []}}
+        data = {"flags": {"on": False}, "lists": {"todo": [row]}}
+        told = ['flag on\nlist todo\n  field mark old new\n  list step\n',
+                'flag on no\nlist todo\n  row 7 new\n    list step\n']
+        self.assertEqual([write_shape(shape), write_data(shape, data)], told)
+        self.assertTrue(read_shape(told[0]) == shape)
+        self.assertEqual(read_data(shape, told[1]), data)
+
+    def test_desk(self):
+        desk = Desk(self.rows_and_an_end(), Rule())
+        desk.batch([("remove", (1,)), ("insert", (0,), ("part", "head", None, []))])
+        self.assertEqual([len(desk), desk.current().parts(), desk.score(), desk.trail()],
+                         [1, [(0,), (1, 0, 0)], (1, 1), [(2, 1), (1, 1)]])
+
+    def test_readme(self):
+        text = (pathlib.Path(__file__).parent.parent / "README.md").read_text(encoding="utf-8")
+        names = {}
+        for block in re.findall(r"```python\n(.*?)```", text, re.DOTALL):
+            exec(block, names)
+        template, rule = names["template"], names["Rule"]()
+        self.assertEqual(names["cost"](rule, names["old"], names["new"]), (0, 0, 1))
+        self.assertEqual(names["chosen"], (("key", (0, 0, 0)), ("key", (1,))))
+        self.assertIsNone(names["mixing"](template, rule, (0, 0, 0), (1,)))
+        self.assertIsNone(names["is_right_for"](template, rule, ["flag"], 1))
+        self.assertEqual(names["text"], "for todo\n  part row none\npart end none\n")
+        desk = names["desk"]
+        desk.redo()
+        self.assertEqual([desk.score(), desk.trail()], [(1, 1), [(2, 1), (2, 1), (1, 1)]])
 
 
 if __name__ == "__main__":

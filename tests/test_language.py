@@ -6,7 +6,8 @@ import pathlib
 import re
 import unittest
 
-from statestay import drawing, errors, matching, moves, right, screens, shapes, templates, verdicts
+from statestay import (changes, desk, drawing, errors, matching, moves, repairs, right, screens, shapes, templates, texts,
+                       verdicts)
 
 PACKAGE = pathlib.Path(shapes.__file__).parent
 BARRED = ["type", "typing", "typing_extensions", "enum", "Enum", "IntEnum", "StrEnum", "Flag", "IntFlag", "Generic",
@@ -20,6 +21,12 @@ BUILTINS = {
 GATHERING = ("sum", "min", "max", "sorted", "any", "all")
 PYTHONS = set(dir(__builtins__)) if not isinstance(__builtins__, dict) else set(__builtins__)
 NOT_ALLOWED = (ast.Global, ast.AsyncFunctionDef, ast.AsyncFor, ast.AsyncWith, ast.Await, ast.Div)
+METHODS = """
+append clear copy count endswith extend find get index insert isalnum isalpha isdigit islower isspace isupper items join
+keys ljust lower lstrip partition pop remove replace reverse rfind rjust rpartition rsplit rstrip setdefault split
+splitlines startswith strip update upper values zfill bit_length
+""".split()
+AT_ONCE = ("list", "tuple", "dict", "sorted", "sum", "any", "all", "enumerate", "zip", "min", "max")
 INTERFACE = {
     shapes: {"Shape": ["__init__", "__eq__", "outer", "inner", "fields", "parent"], "check": [], "rows_in": [],
              "count_data": [], "all_data": []},
@@ -32,6 +39,12 @@ INTERFACE = {
     moves: {"done": [], "shifts": [], "least_moves": [], "moves": [], "cost": []},
     right: {"is_right": []},
     verdicts: {"verdicts": [], "losing": [], "mixing": [], "places": [], "data_at": []},
+    changes: {"apply": [], "changes": [], "is_right_for": []},
+    repairs: {"full_key": [], "candidates": [], "repaired": [], "repairs": [], "fewest": []},
+    texts: {"write_shape": [], "write_template": [], "write_data": [], "read_shape": [], "read_template": [],
+            "read_data": []},
+    desk: {"Desk": ["__init__", "__getitem__", "__setitem__", "__contains__", "__len__", "do", "batch", "current", "undo",
+                    "redo", "score", "trial", "trail", "use_rule", "rule"]},
 }
 
 
@@ -150,6 +163,71 @@ class Code(unittest.TestCase):
             if "property" in [getattr(one, "id", "") for one in node.decorator_list]:
                 self.assertNotIn(node.name, stored, where)
 
+    def test_methods_of_builtin_values(self):
+        own = {node.name for where, one in nodes(ast.ClassDef) for node in one.body if isinstance(node, ast.FunctionDef)}
+        for where, node in nodes(ast.Call):
+            if isinstance(node.func, ast.Attribute):
+                self.assertIn(node.func.attr, own | set(METHODS), where)
+                self.assertTrue(node.func.attr in own or not node.keywords, where)
+
+    def test_what_is_iterated_at_once(self):
+        for path, tree in trees():
+            above = {inner: node for node in ast.walk(tree) for inner in ast.iter_child_nodes(node)}
+            for node in [node for node in ast.walk(tree) if isinstance(node, ast.Call)]:
+                name = getattr(node.func, "id", None) or "." + getattr(node.func, "attr", "")
+                where = f"{path.name}:{node.lineno}"
+                if name in ("zip", "enumerate", "range", "reversed", ".items", ".keys", ".values"):
+                    outer = above[node]
+                    called = isinstance(outer, ast.Call) and getattr(outer.func, "id", "") in AT_ONCE
+                    self.assertTrue(called or isinstance(outer, (ast.For, ast.comprehension)), where)
+                if name == "reversed":
+                    # Where a class has __getitem__, reversed takes only these.
+                    self.assertIn(getattr(node.args[0].func, "id", ""), ("list", "tuple", "sorted", "range"), where)
+
+    def test_sets(self):
+        for path, tree in trees():
+            above = {inner: node for node in ast.walk(tree) for inner in ast.iter_child_nodes(node)}
+            for node in ast.walk(tree):
+                made = isinstance(node, ast.Call) and getattr(node.func, "id", "") in ("set", "frozenset")
+                if made or isinstance(node, (ast.Set, ast.SetComp)):
+                    outer = above[node]
+                    name = getattr(getattr(outer, "func", None), "id", "")
+                    self.assertIn(name, ("sorted", "len"), f"{path.name}:{node.lineno}")
+
+    def test_numbers_of_arguments(self):
+        functions = [node for path, tree in trees() for node in tree.body if isinstance(node, ast.FunctionDef)]
+        names = [node.name for node in functions]
+        made = {node.name: (node.args, 0) for node in functions if names.count(node.name) == 1}
+        made.update({one.name: (node.args, 1) for where, one in nodes(ast.ClassDef) for node in one.body
+                     if getattr(node, "name", "") == "__init__"})
+        for where, node in nodes(ast.Call):
+            if getattr(node.func, "id", None) in made:
+                takes, own = made[node.func.id]
+                names = [one.arg for one in takes.args][own:]
+                given = names[:len(node.args)] + [one.arg for one in node.keywords]
+                self.assertLessEqual(len(node.args), len(names), where)
+                self.assertEqual(len(set(given)), len(given), where)
+                self.assertLessEqual(set(given), set(names + [one.arg for one in takes.kwonlyargs]), where)
+                self.assertLessEqual(set(names[:len(names) - len(takes.defaults)]), set(given), where)
+
+    def test_names_of_imports_and_classes(self):
+        for path, tree in trees():
+            several = {alias.name for node in tree.body if isinstance(node, ast.ImportFrom) for alias in node.names}
+            used = {node.id for node in ast.walk(tree) if isinstance(node, ast.Name)}
+            self.assertLessEqual(several, used, path.name)
+            several |= {node.name for node in tree.body if isinstance(node, ast.ClassDef)}
+            local = {node.id for node in ast.walk(tree) if isinstance(node, ast.Name) and isinstance(node.ctx, ast.Store)}
+            local |= {node.arg for node in ast.walk(tree) if isinstance(node, ast.arg)}
+            self.assertEqual(several & local, set(), path.name)
+
+    def test_no_two_files_import_from_each_other(self):
+        left = {path.stem: {node.module.split(".")[1] for node in tree.body if isinstance(node, ast.ImportFrom)}
+                for path, tree in trees()}
+        while left:
+            free = [name for name, needed in left.items() if not needed & set(left)]
+            self.assertTrue(free, left)
+            left = {name: needed for name, needed in left.items() if name not in free}
+
     def test_no_name_is_a_method_and_an_attribute(self):
         methods = {node.name for where, one in nodes(ast.ClassDef) for node in one.body
                    if isinstance(node, ast.FunctionDef)}
@@ -166,8 +244,12 @@ class Interface(unittest.TestCase):
                     self.assertIn(method, vars(getattr(module, name)))
 
     def test_properties(self):
-        for name in ("data", "focus"):
-            self.assertIsInstance(vars(screens.Screen)[name], property)
+        for made, name in ((screens.Screen, "data"), (screens.Screen, "focus"), (desk.Desk, "rule")):
+            self.assertIsInstance(vars(made)[name], property)
+            self.assertIsNone(vars(made)[name].fset)
+
+    def test_sorts_of_deeds(self):
+        self.assertIsInstance(changes.SORTS, tuple)
 
     def test_arguments(self):
         for call, arguments in (
@@ -191,6 +273,16 @@ class Interface(unittest.TestCase):
             (verdicts.verdicts, "(template, rule)"), (verdicts.losing, "(template, rule, path)"),
             (verdicts.mixing, "(template, rule, path, other)"), (verdicts.places, "(template, rule, path, most)"),
             (verdicts.data_at, "(template, rule, path, index)"),
+            (changes.apply, "(shape, data, deed)"), (changes.changes, "(shape, data, sorts, most)"),
+            (changes.is_right_for, "(template, rule, sorts, most)"), (repairs.full_key, "(template, path)"),
+            (repairs.candidates, "(template)"), (repairs.repaired, "(template, chosen)"),
+            (repairs.repairs, "(template, rule)"), (repairs.fewest, "(template, rule)"),
+            (texts.write_shape, "(shape)"), (texts.write_template, "(template)"), (texts.write_data, "(shape, data)"),
+            (texts.read_shape, "(text)"), (texts.read_template, "(shape, text)"), (texts.read_data, "(shape, text)"),
+            (desk.Desk, "(template, rule)"), (desk.Desk.do, "(self, edit)"), (desk.Desk.batch, "(self, edits)"),
+            (desk.Desk.trial, "(self, edits)"), (desk.Desk.use_rule, "(self, rule)"), (desk.Desk.trail, "(self)"),
+            (desk.Desk.current, "(self)"), (desk.Desk.score, "(self)"), (desk.Desk.undo, "(self)"),
+            (desk.Desk.redo, "(self)"),
             (errors.InvalidTemplate, "(part, path)"), (errors.NoList, "(name)"), (errors.LimitExceeded, "(limit)"),
         ):
             self.assertEqual(str(inspect.signature(call)), arguments)
