@@ -41,7 +41,7 @@ class Desk:
     @property
     def rule(self):
         """The rule of now."""
-        return self.given_rule
+        return Rule(self.given_rule.place)
 
     def use_rule(self, rule):
         """Make another rule the rule of now."""

@@ -19,7 +19,7 @@ def mark_of(label):
 
 
 def longest_rising(ranks):
-    """A longest sequence of these different integers that rises, in their order."""
+    """A longest sequence of these different integers that rises, the last one first."""
     # For each length so far: the index of the smallest rank that ends a rising sequence of this length.
     ends = []
     earlier = []
@@ -32,7 +32,6 @@ def longest_rising(ranks):
     while at is not None:
         rising.append(ranks[at])
         at = earlier[at]
-    rising.reverse()
     return rising
 
 

@@ -6,8 +6,11 @@ from statestay.study import Study
 
 def is_right(template, rule):
     """None if the template is right, otherwise two data with a fault and at most two rows in each list."""
-    study = Study(template, rule, True)
+    study = Study(template, rule)
     paths = template.parts()
+    # What is lost is shown by the two least indexes of a node, and the second one of them needs one row more than must
+    # be there: with two more, either of them could be left out, and there would be a third index below it. If nothing
+    # is lost, each part with its ids has one address, and no more rows are needed than must be there.
     for path in paths:
         pair = losing_data(study, path)
         if pair is not None:

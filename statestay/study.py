@@ -19,13 +19,12 @@ OTHER = -1
 
 
 class Study:
-    """What the nodes of a template can become with a rule; with few rows, at most two in each list."""
+    """What the nodes of a template can become with a rule."""
 
-    def __init__(self, template, rule, few):
+    def __init__(self, template, rule):
         """Keep what is studied; what is found out is kept, too."""
         self.template = template
         self.plain = rule.place == Rule.PLAIN
-        self.few = few
         self.found_levels = {}
         self.found_bodies = {}
         self.found_slots = {}
@@ -100,20 +99,20 @@ class Study:
                     start += self.counts(level, value, one, here)
                 elif not world.get(("empty", one[1]), False):
                     least = 1 if ("empty", one[1]) in world else 0
-                    several.append(self.rows_ahead(level, value, one, here, ids_in(value), least, 2))
+                    several.append(self.rows_ahead(level, value, one, here, ids_in(value), least))
         if level.passing is not None:
-            # The row around has its id for itself, and stands behind one row at most if there are two.
+            # The row around has its id for itself.
             numbers = [number for number in ids_in(value) if number != around[-1]["id"]]
-            several.append(self.rows_ahead(level, value, level.passing, around[:-1], numbers, 0, 1))
+            several.append(self.rows_ahead(level, value, level.passing, around[:-1], numbers, 0))
         return start, several
 
-    def rows_ahead(self, level, value, item, around, numbers, least, most):
+    def rows_ahead(self, level, value, item, around, numbers, least):
         """The rows ahead of a list that a for goes through; the key value has ids with these numbers."""
         others = self.added(level, value, item, around, OTHER)
         single = [(number, self.added(level, value, item, around, number)) for number in numbers]
         # An id counts only if its row can add what no other row can add.
         single = [(number, added) for number, added in single if not all([many in others for many in added])]
-        return Ahead(item[1], single, others, least, most if self.few else None)
+        return Ahead(item[1], single, others, least)
 
     def added(self, level, value, item, around, number):
         """A dict from what a row with this id can add to the index to a row, without its id, that adds so much."""

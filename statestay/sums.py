@@ -12,16 +12,14 @@ FULL = (1 << 2048) - 1
 class Ahead:
     """The rows of one list that stand ahead of a node."""
 
-    def __init__(self, name, single, others, least, most):
-        """Keep the name of the list, what its rows can add, and how many rows there are at least and at most."""
+    def __init__(self, name, single, others, least):
+        """Keep the name of the list, what its rows can add, and how many rows there are at least."""
         self.name = name
         # Pairs of an id that counts, which one row at most can have, and a dict from what this row adds to the row.
         self.single = single
         # A dict from what a row with another id adds to such a row.
         self.others = others
         self.least = least
-        # None if there may be any number of rows.
-        self.most = most
 
 
 def sums(start, several):
@@ -41,22 +39,9 @@ def sums_of_rows(found, ahead):
         by_many = [one | other for one, other in zip(by_many + [0], more)]
     total = 0
     for many, one in enumerate(by_many):
-        total = total | with_others(one, ahead, many)
-    return total
-
-
-def with_others(found, ahead, many):
-    """The sums of one of these, which hold what so many rows add, and of what the other rows of the list add."""
-    if ahead.most is not None and many > ahead.most:
-        return 0
-    for step in range(many, ahead.least):
-        found = shifted(found, ahead.others)
-    if ahead.most is None:
-        return closed(found, ahead.others)
-    total = found
-    for step in range(max(many, ahead.least), ahead.most):
-        found = shifted(found, ahead.others)
-        total = total | found
+        for step in range(many, ahead.least):
+            one = shifted(one, ahead.others)
+        total = total | closed(one, ahead.others)
     return total
 
 

@@ -9,7 +9,7 @@ from statestay.witnesses import data_for
 
 def verdicts(template, rule):
     """A dict from the paths of the parts to whether they can be lost and the paths that they can be mixed with."""
-    study = Study(template, rule, False)
+    study = Study(template, rule)
     paths = sorted(template.parts())
     mixed = {path: [] for path in paths}
     for at, path in enumerate(paths):
@@ -24,14 +24,14 @@ def verdicts(template, rule):
 def losing(template, rule, path):
     """Two data between which a part with this path is lost; None if there are none."""
     need_part_at(template, path)
-    return losing_data(Study(template, rule, False), path)
+    return losing_data(Study(template, rule), path)
 
 
 def mixing(template, rule, path, other):
     """Two data between which a part with this path is mixed with one with the other path; None if there are none."""
     need_part_at(template, path)
     need_part_at(template, other)
-    return mixing_data(Study(template, rule, False), path, other)
+    return mixing_data(Study(template, rule), path, other)
 
 
 def need_part_at(template, path):
@@ -44,7 +44,7 @@ def places(template, rule, path, most):
     """All integers up to the most that are the index of a node with this path, ascending."""
     need_node_at(template, path)
     found = 0
-    for case in Study(template, rule, False).cases(path):
+    for case in Study(template, rule).cases(path):
         found = found | case.indexes[-1]
     return [index for index in range(most + 1) if found >> index & 1 == 1]
 
@@ -52,7 +52,7 @@ def places(template, rule, path, most):
 def data_at(template, rule, path, index):
     """Data in whose drawing a node with this path has this index; None if there are none."""
     need_node_at(template, path)
-    study = Study(template, rule, False)
+    study = Study(template, rule)
     for case in study.cases(path):
         if case.indexes[-1] >> index & 1 == 1:
             return data_for(study, case, case.ids, case.least_indexes()[:-1] + [index])
@@ -61,5 +61,5 @@ def data_at(template, rule, path, index):
 
 def need_node_at(template, path):
     """Raise NoItem if this is not the path of a part or a group."""
-    if path not in template.paths() or template.item_at(path)[0] not in NODES:
+    if template.item_at(path)[0] not in NODES:
         raise NoItem(path)

@@ -82,8 +82,6 @@ def ways_to_add(ahead, total):
         if length >= ahead.least:
             layer = {before: rows for before, rows in layer.items() if before <= total and before not in found}
             found = {**found, **layer}
-        if length == ahead.most:
-            break
         layer = {before + many: rows + [(None, body)] for before, rows in layer.items()
                  for many, body in ahead.others.items()}
         length += 1

@@ -16,6 +16,9 @@ def specs():
         (["on"], {"todo": one(MARK), "menu": one(MARK)}),
         (["on"], {"todo": one({}, {"step": one()}), "menu": one({}, {"bite": one()})}),
         ([], {"todo": one({"mark": ("new", "old", "odd"), "tone": ("new", "red")})}),
+        # Flags, fields, lists and words may have the names of one another and of forms.
+        (["todo", "id"], {"todo": one({"todo": ("todo", "id")}, {"id": one({"todo": ("new", "id")})})}),
+        (["flag"], {"field": one({"field": ("empty", "field")}, {"empty": one()}), "id": one({"id": ("word", "id")})}),
     ]
 
 
@@ -36,6 +39,9 @@ def key(dice, spec, rows):
         several += [("id",)] * 4 + [("both", ("word", "w"), ("id",))]
         several += [("field", field) for field in fields] * 2
         several += [("up", above)] if expected.nested(above) < 4 else []
+        first, second = [dice.choice(several) for part in range(2)]
+        if max(expected.nested(first), expected.nested(second)) < 4:
+            several += [("both", first, second)] * 2
     if len(rows) > 1:
         several += [("up", ("id",)), ("both", ("up", ("id",)), ("id",)), ("both", ("id",), ("up", ("id",)))]
     return dice.choice(several)

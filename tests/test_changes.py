@@ -291,6 +291,18 @@ class Changes(Case):
         held = [id(value) for deed in several for value in containers(deed)]
         self.assertEqual(len(set(held)), len(held))
 
+    def test_data_may_be_changed_while_deeds_are_to_come(self):
+        spec = (["on"], {"todo": one({"mark": ("new", "old")}, {"step": one()})})
+        shape = Shape(*spec)
+        data = chance.data(random.Random(4), spec, 2, 3)
+        sorts = list(ALL)
+        wanted = [exactly(deed) for deed in changes(shape, data, ALL, 3)]
+        made = module.changes(shape, data, sorts, 3)
+        told = [exactly(next(made))]
+        clear(data)
+        clear(sorts)
+        self.assertEqual(told + [exactly(deed) for deed in made], wanted)
+
     def test_the_order_of_sorts_means_nothing(self):
         spec = SMALL[4]
         data = chance.data(random.Random(5), spec, 2, 3)

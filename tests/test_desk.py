@@ -286,6 +286,9 @@ class ByHand(unittest.TestCase):
         desk.use_rule(other)
         other.place = "all"
         self.assertEqual([desk.rule.place, desk.score()], ["plain", (0, 0)])
+        told = desk.rule
+        told.place = "all"
+        self.assertEqual([desk.rule.place, desk.score()], ["plain", (0, 0)])
 
     def test_the_worked_scores(self):
         items = [("for", "todo", [part("row")]), part("end")]

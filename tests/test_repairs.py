@@ -224,7 +224,7 @@ class LeastSets(unittest.TestCase):
 
     def test_sets_of_three_against_all_sets(self):
         found = 0
-        for dice, spec, items in templates(57, 200):
+        for dice, spec, items in templates(157, 300):
             if len(expected.listed(items)) <= 8 and len(part_paths(items)) > 2:
                 for place in PLACES:
                     told = self.compare(spec, items, place, 3)

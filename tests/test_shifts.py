@@ -95,6 +95,22 @@ class Done(unittest.TestCase):
             self.assertEqual(exactly_long(told), exactly_long(wanted))
         self.assertEqual(exactly_long([row, several]), before)
 
+    def test_tuples_of_all_values(self):
+        labels = [(1, {"a": [1], "b": None}), (1, {"a": [1], "b": 0}), (1, {"a": (1,), "b": None}), (1, {"a": [1]}),
+                  (1, [("a", [1]), ("b", None)]), (1, {"b": [1], "a": None}), ({1: 2},), ({2: 1},), ([1, 2],), ([(1, 2)],)]
+        self.assertTrue(done(labels, []) == labels)
+        for at, label in enumerate(labels):
+            rest = labels[:at] + labels[at + 1:]
+            result = done(rest, [("insert", 0, label)])
+            self.assertTrue(result == [label] + rest)
+            self.assertFalse(result[0][-1] is label[-1])
+            self.assertFalse(result[1][-1] is rest[0][-1])
+            self.assertEqual(shifts(rest, [label] + rest), [("insert", 0, label)])
+            self.assertFalse(shifts([], [label])[0][2][-1] is label[-1])
+        again = ("insert", 2, (1, {"b": None, "a": [1]}))
+        self.assertEqual(outcome(done, labels, [again]), ("InvalidShift", again))
+        self.assertEqual(least_moves([labels[0], "a"], ["a", (1, {"b": None, "a": [1]})]), 1)
+
     def test_the_result_is_new(self):
         row = ["a", "b"]
         result = done(row, [])

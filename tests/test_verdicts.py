@@ -228,6 +228,20 @@ class ByHand(unittest.TestCase):
         spec = ([], {"todo": one({"mark": ("new", "old"), "tone": ("red", "odd")})})
         self.assertEqual(told_of(spec, items)[(0, 0, 0)], (True, []))
 
+    def test_words_in_keys_of_keys(self):
+        field = ("field", "mark")
+        for key in (("both", field, ("id",)), ("both", ("id",), field), ("both", ("both", field, ("id",)), ("word", "w")),
+                    ("both", ("word", "w"), ("both", ("id",), field))):
+            # The word of a row may change, and then the row is another one for its part.
+            told = told_of(self.marked, [("for", "todo", [part("a", key)])])
+            self.assertEqual(told, {(0, 0, 0): (True, [])})
+            # Where one word alone is possible, nothing changes.
+            items = [("for", "todo", [("if", ("field", "mark", "new"), [part("a", key)], [])])]
+            self.assertEqual(told_of(self.marked, items), {(0, 0, 0, 0, 0): (False, [])})
+        for key in (("both", field, field), ("both", ("word", "w"), field), ("both", field, ("word", "w"))):
+            told = told_of(self.marked, [("for", "todo", [part("a", key)])])
+            self.assertEqual(told, {(0, 0, 0): (True, [(0, 0, 0)])})
+
     def test_nodes_are_counted_with_those_of_one_key_and_kind(self):
         items = [("if", ("flag", "on"), [part("a", ("word", "w"))], []), part("b", ("word", "w")),
                  group([], ("word", "w")), part("a", ("word", "x")), part("a", ("word", "w"))]
@@ -324,6 +338,36 @@ class Sums(unittest.TestCase):
         for r in range(9):
             items = [("if", ("flag", "on"), [("for", "todo", inside), part("a")], [part("b", ("word", "w"))] * r + [part("a")])]
             self.assertEqual(meet(spec, items, (0, 0, 1), (0, 1, r)), r in (0, 4, 6, 8))
+
+    def test_what_is_asked_behind_a_part_counts_for_the_rows_ahead(self):
+        # Each row ahead adds two nodes, or three if a test behind the part holds.
+        def meets(spec, test):
+            rows = [("for", "todo", [part("a"), part("b", ("id",)), ("if", test, [part("b", ("id",))], [])])]
+            items = [("if", ("empty", "todo"), [part("b", ("word", "w"))] * 3 + [part("a")], rows)]
+            return meet(spec, items, (0, 1, 0, 0, 0), (0, 0, 3))
+
+        marked = {"mark": ("new", "old")}
+        self.assertTrue(meets((["on"], {"todo": one()}), ("flag", "on")))
+        self.assertTrue(meets((["on"], {"todo": one()}), ("not", ("flag", "on"))))
+        self.assertTrue(meets((["todo"], {"todo": one()}), ("flag", "todo")))
+        self.assertTrue(meets(([], {"todo": one(), "menu": one()}), ("up", ("empty", "menu"))))
+        self.assertTrue(meets(([], {"todo": one(), "menu": one()}), ("up", ("not", ("empty", "menu")))))
+        self.assertTrue(meets(([], {"todo": one(marked)}), ("field", "mark", "old")))
+        self.assertTrue(meets(([], {"todo": one({}, {"step": one()})}), ("empty", "step")))
+        self.assertTrue(meets(([], {"todo": one({}, {"step": one()})}), ("not", ("empty", "step"))))
+        # The list has rows where the part is drawn.
+        self.assertFalse(meets(([], {"todo": one()}), ("up", ("empty", "todo"))))
+        self.assertTrue(meets(([], {"todo": one()}), ("not", ("up", ("empty", "todo")))))
+
+    def test_what_is_asked_of_the_row_around_counts_for_the_rows_ahead(self):
+        spec = ([], {"todo": one({"mark": ("new", "old")}, {"step": one({"mark": ("old", "new")})})})
+        for test, wanted in ((("up", ("field", "mark", "old")), True), (("up", ("field", "mark", "new")), True),
+                             (("field", "mark", "new"), True), (("up", ("empty", "step")), False)):
+            steps = ("for", "step", [part("a"), part("b", ("id",)), ("if", test, [part("b", ("id",))], [])])
+            others = [part("b", ("word", "w"))] * 3 + [part("a")]
+            items = [("for", "todo", [group([("if", ("empty", "step"), others, [steps])], ("id",))])]
+            at = (0, 0, 0, 0, 0)
+            self.assertEqual(meet(spec, items, at + (1, 0, 0, 0), at + (0, 3)), wanted)
 
     def test_a_list_that_is_not_empty(self):
         for p, r in [(p, r) for p in (2, 3) for r in range(7)]:
