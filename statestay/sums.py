@@ -49,8 +49,13 @@ def shifted(found, added):
     """The sums of one of these integers and one of the added ones."""
     total = 0
     for one in added:
-        total = total | found << one
-    return total & FULL
+        total = total | raised(found, one)
+    return total
+
+
+def raised(found, many):
+    """These integers, each greater by so many; what would be too great is left out."""
+    return (found & FULL >> many) << many
 
 
 def closed(found, added):
@@ -58,7 +63,7 @@ def closed(found, added):
     for one in added:
         # Each step doubles how often it is added; the last one goes over all bits.
         while 0 < one < BITS:
-            found = (found | found << one) & FULL
+            found = found | raised(found, one)
             one = one * 2
     return found
 

@@ -294,7 +294,9 @@ class Changes(Case):
     def test_data_may_be_changed_while_deeds_are_to_come(self):
         spec = (["on"], {"todo": one({"mark": ("new", "old")}, {"step": one()})})
         shape = Shape(*spec)
-        data = chance.data(random.Random(4), spec, 2, 3)
+        steps = [{"id": 4, "fields": {}, "lists": {}}]
+        rows = [{"id": number, "fields": {"mark": "new"}, "lists": {"step": steps[number:]}} for number in range(2)]
+        data = {"flags": {"on": True}, "lists": {"todo": rows}}
         sorts = list(ALL)
         wanted = [exactly(deed) for deed in changes(shape, data, ALL, 3)]
         made = module.changes(shape, data, sorts, 3)

@@ -151,6 +151,10 @@ class ByHand(unittest.TestCase):
             ("for", "step", [part("a", ("id",))] * 3), part("a", ("up", ("word", "w"))), part("a", ("id",))])])]
         self.assertEqual(self.places(spec, items, (0, 0, 0, 0, 2)), [0, 3])
         self.assertEqual(self.places(spec, items, (0, 0, 0, 0, 0, 0, 1)), [1])
+        inside = [part("a", ("id",)), ("for", "step", [part("a", ("id",))] * 2), part("a", ("id",))]
+        self.assertEqual(self.places(spec, [("for", "todo", [group(inside)])], (0, 0, 0, 0, 2)), [1, 3])
+        inside[1] = ("if", ("empty", "step"), [], inside[1:2])
+        self.assertEqual(self.places(spec, [("for", "todo", [group(inside)])], (0, 0, 0, 0, 2)), [1, 3])
         template = Template(Shape(*spec), items)
         row = data_at(template, Rule(), (0, 0, 0, 0, 2), 3)["lists"]["todo"][-1]
         self.assertIn(row["id"], [step["id"] for step in row["lists"]["step"]])

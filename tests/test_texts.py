@@ -1,6 +1,7 @@
 """Texts of shapes, templates and data, written and read (points 53 to 58)."""
 
 import random
+import re
 import time
 import unittest
 
@@ -183,6 +184,22 @@ class Templates(unittest.TestCase):
         text = "define a\ndefine b\n  slot\ndefine c\n  part x none\n    slot\npiece c\n  piece b\n    piece a\n      slot\n"
         self.assertEqual(outcome(read_template, Shape([], {}), text), ("InvalidTemplate", "form", (0, 0, 0, 0, 0, 0, 0)))
         self.assertEqual(self.compare(([], {}), text[:-len("      slot\n")])[0], "told")
+
+    def test_names_of_forms(self):
+        for name in [word for word in WORDS if re.fullmatch("[a-z]{1,8}", word)]:
+            spec = ([name], {name: one({name: (name, "zz")})})
+            items = [("piece", name, [("if", ("flag", name), [part(name, ("word", name))], [])]),
+                     ("for", name, [("if", ("not", ("field", name, name)), [part(name, ("field", name))], [group()])]),
+                     ("if", ("empty", name), [], [part(name)]), ("piece", name, [])]
+            pieces = {name: [group([("slot",)]), part(name)]}
+            text = expected_texts.template_text(items, pieces)
+            self.assertEqual(self.compare(spec, text)[0], "told")
+            template = Template(Shape(*spec), items, pieces=pieces)
+            self.assertTrue(read_template(Shape(*spec), text) == template)
+            self.assertTrue(read_template(Shape(*spec), write_template(template)) == template)
+            self.assertTrue(read_shape(write_shape(Shape(*spec))) == Shape(*spec))
+            data = {"flags": {name: True}, "lists": {name: [{"id": 0, "fields": {name: name}, "lists": {}}]}}
+            self.assertEqual(exactly(read_data(Shape(*spec), write_data(Shape(*spec), data))), exactly(data))
 
     def test_wrong_lines(self):
         fine = "part a none\n"

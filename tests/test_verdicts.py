@@ -170,6 +170,17 @@ class ByHand(unittest.TestCase):
             ("if", ("empty", "todo"), [part("b", ("word", "x"))], [group(), ("for", "todo", [part("b", ("id",))])]),
         ]), Rule("plain")))
 
+    def test_a_list_behind_a_flag_is_empty_where_it_is_asked_further_in(self):
+        rows = [("if", ("flag", "on"), [("for", "todo", [part("b", ("id",))])], [])]
+        for items, at in ((rows, (1,)), ([("if", ("not", ("flag", "on")), [], rows)], (1,)),
+                          ([("if", ("flag", "on"), [], [part("b")]), ("if", ("flag", "on"), rows, [])], (2,))):
+            inside = [("if", ("empty", "todo"), [part("a")], [part("c")])]
+            told = told_of(self.plain, items + [group(inside)])
+            many = len(items) - 1
+            # With no row nothing stands ahead, or the one part if the flag is off.
+            self.assertEqual(told[at + (0, 0, 0, 0)], (many == 1, []))
+            self.assertEqual(told[at + (0, 0, 1, 0)], (True, []))
+
     def test_one_field_asked_twice(self):
         inside = [("if", ("field", "mark", "new"), [part("b", ("id",))], []),
                   ("if", ("field", "mark", "old"), [part("b", ("id",))], []), part("a", ("id",))]
@@ -202,6 +213,16 @@ class ByHand(unittest.TestCase):
         self.assertEqual(list(told_of(self.nested, items).values()), [(False, [])] * 2)
         items = [("for", "todo", [part("a", ("word", "w"), [("for", "step", [part("b", ("id",))])])])]
         self.assertEqual(told_of(self.nested, items)[(0, 0, 0, 0, 0, 0, 0)], (True, [(0, 0, 0, 0, 0, 0, 0)]))
+
+    def test_ids_that_a_part_has_not_in_its_key_stay_different(self):
+        # A step is the first one with its key only if the row around has another id.
+        items = [("for", "todo", [group([part("b", ("id",)), ("for", "step", [part("b", ("id",))])])])]
+        template = Template(Shape(*self.nested), items)
+        at = (0, 0, 0, 0, 1, 0, 0)
+        for place in PLACES:
+            pair = mixing(template, Rule(place), at, at)
+            self.assertIn(("mixed", at, at), fault_paths(items, place, pair))
+        self.assertEqual(verdicts(template, Rule())[at], (True, [(0, 0, 0, 0, 0), at]))
 
     def test_up_speaks_of_the_row_around(self):
         items = [("for", "todo", [group([("for", "step", [part("b", ("up", ("id",)))])], ("id",))])]
